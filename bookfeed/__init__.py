@@ -1,0 +1,1 @@
+"""A feed: books told to members over a net that loses, doubles and reorders."""
