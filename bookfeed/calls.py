@@ -1,33 +1,33 @@
-"""The calls on one object: what each one does and answers, and what it refuses."""
+"""The calls on one object: their ranges, the refusals that all of them share, and who answers each."""
 
-from bookfeed.frames import frame_octets
-from bookfeed.house import (
-    House,
-    changes_full,
-    frames_full,
-    last_number,
-    make_change,
-    no_room_for,
-    send_beat,
-    send_snapshot,
+from bookfeed.house_calls import (
+    beat,
+    open_house,
+    set_amount,
+    snap,
+    tell_book,
+    tell_frame,
+    tell_levels_at,
+    tell_state,
 )
-from bookfeed.levels import levels_row, one_side
-from bookfeed.members import frame_comes
+from bookfeed.member_calls import (
+    back,
+    burst,
+    crash_member,
+    deliver,
+    drain_slow,
+    make_slow,
+    tell_member,
+    tell_pending,
+    tell_slow_view,
+    tell_top,
+    tell_view,
+)
+from bookfeed.stream import Reader
+from bookfeed.stream_calls import decode, feed, reset
+from bookfeed.told import BAD_CALL, NO_HOUSE
 
-DONE = 0
-BAD_CALL = -1
-NO_HOUSE = -2
-NO_MEMBER_OR_BOOK = -3
-NO_FRAME = -4
-FULL = -5
-TOO_MANY_LEVELS = -6
-SAME_AMOUNT = -7
-WAITING = -8
-
-SELLS = 0
-BUYS = 1
-
-# For each call, by its place: the least and the greatest of each of its numbers.
+# For each call, by its place: the least and the greatest of each of its numbers, bytes not counted.
 RANGES = (
     ((1, 4), (1, 4)),
     ((0, 3), (0, 1), (-1000000, 1000000), (0, 1000000000)),
@@ -40,9 +40,27 @@ RANGES = (
     ((0, 3),),
     ((0, 3),),
     ((0, 3),),
+    ((0, 3), (0, 3)),
+    ((0, 199),),
+    (),
+    ((0, 3),),
+    ((0, 3), (0, 1000)),
+    ((0, 3),),
+    ((0, 3),),
+    (),
+    (),
+    ((0, 3),),
+    (),
 )
 
-WITHOUT_HOUSE = (0,)
+# Open, decode, feed and reset.
+WITHOUT_HOUSE = (0, 13, 18, 19)
+
+# Decode and feed: they have a row of bytes, and no numbers before it.
+WITH_OCTETS = (13, 18)
+
+MOST_OCTETS = 1000
+MOST_OCTET = 255
 
 
 class Desk:
@@ -50,157 +68,62 @@ class Desk:
 
     def __init__(self):
         self.house = None
+        self.reader = Reader()
 
 
-def row_of(numbers):
-    return [len(numbers)] + numbers
+def is_outside(number, least, greatest):
+    return number < least or number > greatest
 
 
-def pairs_row(pairs):
-    numbers = []
-    for pair in pairs:
-        numbers.extend(pair)
-    return row_of(numbers)
-
-
-def has_member(house, member):
-    return member < len(house.members)
-
-
-def has_book(house, book):
-    return book < house.books
-
-
-def has_frame(house, place):
-    return place < len(house.frames)
-
-
-def open_house(desk, numbers):
-    desk.house = House(numbers[0], numbers[1])
-    return [DONE]
-
-
-def set_amount(desk, numbers):
-    house = desk.house
-    key = (numbers[0], numbers[1], numbers[2])
-    amount = numbers[3]
-    if not has_book(house, key[0]):
-        return [NO_MEMBER_OR_BOOK]
-    if house.levels.get(key, 0) == amount:
-        return [SAME_AMOUNT]
-    if no_room_for(house, key):
-        return [TOO_MANY_LEVELS]
-    if changes_full(house):
-        return [FULL]
-    place = make_change(house, key, amount)
-    return [DONE, last_number(house), place]
-
-
-def snap(desk, numbers):
-    house = desk.house
-    if frames_full(house):
-        return [FULL]
-    place = send_snapshot(house)
-    return [DONE, place, len(frame_octets(house.frames[place]))]
-
-
-def beat(desk, numbers):
-    if frames_full(desk.house):
-        return [FULL]
-    return [DONE, send_beat(desk.house)]
-
-
-def tell_frame(desk, numbers):
-    house = desk.house
-    place = numbers[0]
-    if not has_frame(house, place):
-        return [NO_FRAME]
-    return [DONE] + row_of(frame_octets(house.frames[place]))
-
-
-def deliver(desk, numbers):
-    return bring(desk.house, numbers[0], [numbers[1]])
-
-
-def burst(desk, numbers):
-    return bring(desk.house, numbers[0], list(range(numbers[1], numbers[2] + 1)))
-
-
-def back(desk, numbers):
-    return bring(desk.house, numbers[0], list(range(numbers[2], numbers[1] - 1, -1)))
-
-
-def bring(house, place, frame_places):
-    """The frames come to the member in the order of their places in the list.
-
-    A last place below the first makes the list empty.
-    """
-    if not has_member(house, place):
-        return [NO_MEMBER_OR_BOOK]
-    if len(frame_places) == 0 or not has_frame(house, max(frame_places)):
-        return [NO_FRAME]
-    member = house.members[place]
-    done = 0
-    for frame_place in frame_places:
-        done = done + frame_comes(member, house.frames[frame_place])
-    return [DONE, member.number, len(member.kept), done]
-
-
-def tell_view(desk, numbers):
-    house = desk.house
-    if not has_member(house, numbers[0]):
-        return [NO_MEMBER_OR_BOOK]
-    member = house.members[numbers[0]]
-    if not member.live:
-        return [WAITING]
-    return [DONE, member.number] + row_of(levels_row(member.view))
-
-
-def tell_member(desk, numbers):
-    house = desk.house
-    if not has_member(house, numbers[0]):
-        return [NO_MEMBER_OR_BOOK]
-    member = house.members[numbers[0]]
-    slow = 1 if member.slow else 0
-    return [DONE, member.number, member.heard, slow] + row_of(sorted(member.kept))
-
-
-def tell_book(desk, numbers):
-    house = desk.house
-    book = numbers[0]
-    if not has_book(house, book):
-        return [NO_MEMBER_OR_BOOK]
-    buys = one_side(house.levels, book, BUYS)
-    buys.reverse()
-    return [DONE] + pairs_row(buys) + pairs_row(one_side(house.levels, book, SELLS))
-
-
-HANDLERS = (
-    open_house,
-    set_amount,
-    snap,
-    beat,
-    tell_frame,
-    deliver,
-    burst,
-    back,
-    tell_view,
-    tell_member,
-    tell_book,
-)
+def are_octets(numbers):
+    if len(numbers) > MOST_OCTETS:
+        return False
+    return not any([is_outside(number, 0, MOST_OCTET) for number in numbers])
 
 
 def in_ranges(place, numbers):
+    if place in WITH_OCTETS:
+        return are_octets(numbers)
     for bounds, number in zip(RANGES[place], numbers, strict=True):
-        if number < bounds[0] or number > bounds[1]:
+        if is_outside(number, bounds[0], bounds[1]):
             return False
     return True
 
 
+def handler_at(place):
+    """The function that answers the call of this place."""
+    handlers = (
+        open_house,
+        set_amount,
+        snap,
+        beat,
+        tell_frame,
+        deliver,
+        burst,
+        back,
+        tell_view,
+        tell_member,
+        tell_book,
+        tell_top,
+        tell_levels_at,
+        decode,
+        make_slow,
+        drain_slow,
+        tell_slow_view,
+        tell_pending,
+        feed,
+        reset,
+        crash_member,
+        tell_state,
+    )
+    return handlers[place]
+
+
 def answer(desk, place, numbers):
-    if place >= len(HANDLERS) or not in_ranges(place, numbers):
+    """The numbers are the call's own, or its bytes."""
+    if not in_ranges(place, numbers):
         return [BAD_CALL]
     if desk.house is None and place not in WITHOUT_HOUSE:
         return [NO_HOUSE]
-    handler = HANDLERS[place]
+    handler = handler_at(place)
     return handler(desk, numbers)

@@ -1,12 +1,6 @@
 """The package's interface: a list of calls is answered by a list of numbers."""
 
-from bookfeed.calls import Desk, answer
-
-# For each call, by its place: how many numbers it has, its list not counted.
-COUNTS = (2, 4, 0, 0, 1, 2, 3, 3, 1, 1, 1, 2, 1, 0, 1, 2, 1, 1, 0, 0, 1, 0)
-
-# The calls behind whose numbers a list stands, with its length before it.
-WITH_LIST = (13, 18)
+from bookfeed.calls import RANGES, WITH_OCTETS, Desk, answer
 
 
 def answers(calls):
@@ -14,17 +8,23 @@ def answers(calls):
     told = []
     start = 0
     while start < len(calls):
-        stop = call_end(calls, start)
-        numbers = answer(desk, calls[start], calls[start + 1:stop])
+        first = first_number(calls, start)
+        stop = first + count_of_numbers(calls, start)
+        numbers = answer(desk, calls[start], calls[first:stop])
         told.append(len(numbers))
         told.extend(numbers)
         start = stop
     return told
 
 
-def call_end(calls, start):
-    place = calls[start]
-    stop = start + 1 + COUNTS[place]
-    if place in WITH_LIST:
-        stop = stop + 1 + calls[stop]
-    return stop
+def first_number(calls, start):
+    """Where the call's numbers begin: before bytes stands how many they are."""
+    if calls[start] in WITH_OCTETS:
+        return start + 2
+    return start + 1
+
+
+def count_of_numbers(calls, start):
+    if calls[start] in WITH_OCTETS:
+        return calls[start + 1]
+    return len(RANGES[calls[start]])

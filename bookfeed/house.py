@@ -1,10 +1,9 @@
 """A house: its levels, the changes that were made, the frames that were sent, its members."""
 
 from bookfeed.frames import BEAT, CHANGE, SNAPSHOT, Frame
-from bookfeed.levels import do_change, in_order
+from bookfeed.levels import MOST_LEVELS, do_change, in_order
 from bookfeed.members import Member, make_pending
 
-MOST_LEVELS = 40
 MOST_CHANGES = 120
 MOST_FRAMES = 160
 
@@ -18,8 +17,31 @@ class House:
         self.frames = []
 
 
+def has_book(house, book):
+    return book < house.books
+
+
+def has_frame(house, place):
+    return place < len(house.frames)
+
+
+def member_at(house, place):
+    """None if there is no such member."""
+    if place >= len(house.members):
+        return None
+    return house.members[place]
+
+
 def last_number(house):
     return len(house.changes)
+
+
+def levels_as_of(house, count):
+    """The levels when the first changes, so many, are done."""
+    levels = {}
+    for change in house.changes[:count]:
+        do_change(levels, change)
+    return levels
 
 
 def frames_full(house):

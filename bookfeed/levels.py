@@ -3,6 +3,11 @@
 A change is a pair of a key and an amount from 0 on.
 """
 
+SELLS = 0
+BUYS = 1
+
+MOST_LEVELS = 40
+
 
 def do_change(levels, change):
     key = change[0]
@@ -18,12 +23,16 @@ def in_order(levels):
     return sorted(levels.items())
 
 
-def levels_row(levels):
-    row = []
-    for key, amount in in_order(levels):
-        row.extend(key)
-        row.append(amount)
-    return row
+def buys_of(levels, book):
+    """Pairs of price and amount, from the highest price on."""
+    pairs = one_side(levels, book, BUYS)
+    pairs.reverse()
+    return pairs
+
+
+def sells_of(levels, book):
+    """Pairs of price and amount, from the lowest price on."""
+    return one_side(levels, book, SELLS)
 
 
 def one_side(levels, book, side):

@@ -17,6 +17,7 @@ class Member:
         self.kept = {}
         self.heard = 0
         self.slow = False
+        self.slow_view = {}
         self.pending = []
 
 
@@ -87,3 +88,28 @@ def catch_up(member):
 def make_pending(member, key):
     if member.slow and key not in member.pending:
         member.pending.append(key)
+
+
+def join_slow(member, levels):
+    member.slow = True
+    member.slow_view = {}
+    member.pending = sorted(levels)
+
+
+def drain(member, levels, count):
+    """The first pending keys, so many, are told; gives back their changes."""
+    keys = member.pending[:count]
+    member.pending = member.pending[count:]
+    changes = [(key, levels.get(key, 0)) for key in keys]
+    for change in changes:
+        do_change(member.slow_view, change)
+    return changes
+
+
+def crash(member):
+    wait_for_snapshot(member)
+    member.kept = {}
+    member.heard = 0
+    member.slow = False
+    member.slow_view = {}
+    member.pending = []

@@ -3,8 +3,10 @@
 from bookfeed.desk import answers
 
 OPEN, SET, SNAP, BEAT, FRAME, DELIVER, BURST, BACK, VIEW, MEMBER, BOOK = range(11)
+TOP, AT, DECODE, JOIN, DRAIN, SLOW, PENDING, FEED, RESET, CRASH, STATE = range(11, 22)
 
 # For each call: numbers that a house with four books and four members takes, and their ranges.
+# Decode and feed have the length of an empty row of bytes, whose ranges are not here.
 PLACES = (0, 199)
 FOUR = (0, 3)
 CALLS = {
@@ -19,7 +21,19 @@ CALLS = {
     VIEW: ((0,), (FOUR,)),
     MEMBER: ((0,), (FOUR,)),
     BOOK: ((0,), (FOUR,)),
+    TOP: ((0, 0), (FOUR, FOUR)),
+    AT: ((0,), ((0, 199),)),
+    DECODE: ((0,), ()),
+    JOIN: ((0,), (FOUR,)),
+    DRAIN: ((0, 0), (FOUR, (0, 1000))),
+    SLOW: ((0,), (FOUR,)),
+    PENDING: ((0,), (FOUR,)),
+    FEED: ((0,), ()),
+    RESET: ((), ()),
+    CRASH: ((0,), (FOUR,)),
+    STATE: ((), ()),
 }
+WITHOUT_HOUSE = (OPEN, DECODE, FEED, RESET)
 
 
 def flat(calls):
@@ -51,11 +65,32 @@ def sets(count, first=1):
 
 
 def dump_calls(books, members, frames):
-    """Calls that change nothing and tell all that can be told of such a house."""
-    calls = [(BOOK, book) for book in range(books)]
+    """Calls that change nothing and tell all that can be told of such a house, and of the reader."""
+    calls = [(STATE,), feed([])] + [(BOOK, book) for book in range(books)]
     for member in range(members):
-        calls += [(MEMBER, member), (VIEW, member)]
+        calls += [(MEMBER, member), (VIEW, member), (TOP, member, 0), (SLOW, member), (PENDING, member)]
     return calls + [(FRAME, place) for place in range(frames + 1)]
+
+
+def decode(octets):
+    return (DECODE, len(octets), *octets)
+
+
+def feed(octets):
+    return (FEED, len(octets), *octets)
+
+
+def checked(body):
+    """The bytes with their check behind them."""
+    total = 0
+    for index in range(len(body)):
+        total += (index + 1) * body[index]
+    return [*body, total // 256 % 256, total % 256]
+
+
+def framed(octets):
+    """The bytes as they stand in a stream, with how many they are before them."""
+    return [len(octets) // 256, len(octets) % 256, *octets]
 
 
 def row(answer, start=1):
@@ -86,12 +121,9 @@ def read_number(octets, at):
 
 def read_frame(octets):
     """Kind, number and entries (book, side, price, amount) of bytes that are a frame's."""
-    body, check = octets[:-2], octets[-2] * 256 + octets[-1]
-    total = 0
-    for index in range(len(body)):
-        total += (index + 1) * body[index]
-    if total % 65536 != check:
-        raise AssertionError(f"the check {check} is not that of the bytes")
+    body = octets[:-2]
+    if octets != checked(body):
+        raise AssertionError(f"the check {octets[-2:]} is not that of the bytes")
     kind, number = body[0], int.from_bytes(bytes(body[1:5]), "big")
     at, count = {1: (5, 1), 2: (6, body[5] if kind == 2 else 0), 3: (5, 0)}[kind]
     entries = []

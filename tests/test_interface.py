@@ -1,12 +1,17 @@
 import unittest
 
 from bookfeed.desk import answers
-from tests.helper import BACK, BEAT, BOOK, BURST, DELIVER, FRAME, MEMBER, OPEN, SET, SNAP, VIEW
-from tests.helper import flat, sets
+from tests.helper import AT, BACK, BEAT, BOOK, BURST, CRASH, DELIVER, DRAIN, FRAME, JOIN, MEMBER, OPEN, PENDING, RESET
+from tests.helper import SET, SLOW, SNAP, STATE, TOP, VIEW
+from tests.helper import ask, decode, feed, flat, sets
 
 FAR = 10 ** 18
 LINE = [(BEAT,), (OPEN, 2, 2), *sets(12), (SNAP,), (BEAT,), (FRAME, 12), (DELIVER, 0, 0), (BURST, 0, 2, 9),
         (BACK, 1, 0, 5), (VIEW, 0), (VIEW, 1), (MEMBER, 0), (MEMBER, 1), (BOOK, 0), (BOOK, 3), (SET, 9, 9, 9, 9)]
+BEAT_FRAME = [3, 0, 0, 0, 12, 0, 63]
+LINE += [(JOIN, 1), (SET, 1, 1, 3, 4), (PENDING, 1), (DRAIN, 1, 1), (SLOW, 1), (TOP, 0, 0), (AT, 7), (CRASH, 0),
+         decode(BEAT_FRAME), decode([256]), feed([0, 7, *BEAT_FRAME, 0]), (OPEN, 1, 1), feed([0, 255, 255]), (STATE,)]
+LINE += [(RESET,), feed([0]), (JOIN, 0), (SET, 0, 1, 7, 7), (STATE,)]
 
 
 class Watched(list):
@@ -33,6 +38,18 @@ class Interface(unittest.TestCase):
         self.assertEqual({type(told)}, {list})
         self.assertEqual({type(number) for number in told}, {int})
 
+    def test_line_uses_all_calls(self):
+        self.assertEqual({call[0] for call in LINE}, set(range(22)))
+
+    def test_lines_answers(self):
+        told = ask(*LINE)
+        behind = LINE.index((JOIN, 1))
+        self.assertEqual(told[behind:], [
+            [0, 1], [0, 13, 14], [0, 6, 0, 0, 5, 1, 1, 3], [0, 1, 4, 0, 0, 5, 12], [0, 4, 0, 0, 5, 12], [0, 0, 0, 5, 1],
+            [0, 4, 0, 0, 5, 7], [0], [0, 0, 3, 12, 0], [-1], [0, 0, 1, 3, 0, 3, 12], [0], [0, 1, 0, 3, 1, 0, 0],
+            [0, 1, 0, 0, 0, 1, 0], [0], [0, 0, 1, 0], [0, 0], [0, 1, 0], [0, 1, 1, 1, 4, 0, 1, 7, 7, 1, 0],
+        ])
+
     def test_list_is_the_same_afterwards(self):
         calls = flat(LINE)
         answers(calls)
@@ -46,6 +63,7 @@ class Interface(unittest.TestCase):
         first = answers(calls)
         self.assertEqual(answers(calls), first)
         self.assertEqual(answers([3]), [1, -2])
+        self.assertEqual(answers([18, 2, 255, 255]), [4, 0, 1, 0, 0])
         self.assertEqual(answers(calls), first)
 
     def test_answers_are_the_callers_own(self):

@@ -130,8 +130,22 @@ class Language(unittest.TestCase):
             self.assertTrue(ast.get_docstring(tree))
             for node in tree.body[1:]:
                 self.assertIsInstance(node, (ast.ImportFrom, ast.FunctionDef, ast.ClassDef, ast.Assign))
-            bound = [target.id for node in tree.body if isinstance(node, ast.Assign) for target in node.targets]
+            given = [node for node in tree.body if isinstance(node, ast.Assign)]
+            bound = [target.id for node in given for target in node.targets]
             self.assertEqual(len(bound), len(set(bound)))
+            for node in given:
+                plain = (ast.Constant, ast.Tuple, ast.UnaryOp, ast.USub, ast.Load)
+                self.assertEqual([part for part in ast.walk(node.value) if not isinstance(part, plain)], [])
+
+    def test_parameters_and_locals_are_not_called_like_imports_or_classes(self):
+        for path, text, tree in self.each():
+            tops = {alias.name for node in tree.body if isinstance(node, ast.ImportFrom) for alias in node.names}
+            tops |= {node.name for node in tree.body if isinstance(node, (ast.ClassDef, ast.FunctionDef))}
+            for function in [node for node in ast.walk(tree) if isinstance(node, ast.FunctionDef)]:
+                inner = {node.arg for node in ast.walk(function) if isinstance(node, ast.arg)}
+                stored = [node for node in ast.walk(function) if isinstance(node, ast.Name)]
+                inner |= {node.id for node in stored if isinstance(node.ctx, ast.Store)}
+                self.assertEqual(inner & tops, set(), function.name)
 
 
 if __name__ == "__main__":

@@ -1,6 +1,5 @@
 import unittest
 
-from bookfeed.house import House, make_change
 from tests.helper import BEAT, BOOK, BURST, DELIVER, FRAME, MEMBER, OPEN, SET, SNAP, VIEW
 from tests.helper import ask, last, sets
 
@@ -109,16 +108,6 @@ class Set(unittest.TestCase):
         self.assertEqual(last(*line, (SET, 0, 0, 1000, 0)), [-7])
         self.assertEqual(last(*line, (SET, 0, 0, 1000, 1)), [-6])
         self.assertEqual(last(*line, (SET, 0, 0, 0, 2)), [-5])
-
-
-class Pending(unittest.TestCase):
-    def test_key_is_put_behind_a_slow_members_pending_ones(self):
-        house = House(2, 2)
-        house.members[1].slow = True
-        for key, amount in (((1, 0, 5), 3), ((0, 0, 5), 3), ((1, 0, 5), 0)):
-            make_change(house, key, amount)
-        self.assertEqual(house.members[1].pending, [(1, 0, 5), (0, 0, 5)])
-        self.assertEqual(house.members[0].pending, [])
 
 
 if __name__ == "__main__":

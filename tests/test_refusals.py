@@ -1,14 +1,17 @@
 import unittest
 
-from tests.helper import BACK, BEAT, BOOK, BURST, CALLS, DELIVER, FRAME, MEMBER, OPEN, SET, SNAP, VIEW
-from tests.helper import ask, dump_calls, last
+from tests.helper import AT, BACK, BEAT, BOOK, BURST, CALLS, CRASH, DECODE, DELIVER, DRAIN, FEED, FRAME, JOIN, MEMBER
+from tests.helper import OPEN, PENDING, RESET, SET, SLOW, SNAP, STATE, TOP, VIEW, WITHOUT_HOUSE
+from tests.helper import ask, decode, dump_calls, feed, last
 
 FAR = 10 ** 18
 
-# A house whose member 0 is at number 2, whose member 1 waits, and whose member 2 keeps a change.
+# A house whose member 0 is at number 2, whose member 1 waits, and whose member 2 keeps a change and is slow;
+# three bytes wait in the reader.
 SMALL = [(OPEN, 2, 3)]
 SMALL += [(SET, 1, 1, 50 - amount, amount) for amount in range(1, 12)]
 SMALL += [(SNAP,), (BEAT,), (BURST, 0, 0, 1), (BACK, 1, 1, 10), (DELIVER, 2, 4)]
+SMALL += [(JOIN, 2), (DRAIN, 2, 4), feed([0, 7, 3])]
 SMALL_FRAMES = 13
 
 
@@ -47,10 +50,21 @@ class Ranges(unittest.TestCase):
 
 
 class WithoutHouse(unittest.TestCase):
-    def test_all_but_open_are_refused(self):
+    def test_all_but_four_are_refused(self):
+        self.assertEqual(sorted(CALLS), list(range(22)))
         for call, (numbers, ranges) in CALLS.items():
             with self.subTest(call=call):
-                self.assertEqual(last((call, *numbers)), [0] if call == OPEN else [-2])
+                if call in WITHOUT_HOUSE:
+                    self.assertEqual(last((call, *numbers))[0], 0)
+                else:
+                    self.assertEqual(last((call, *numbers)), [-2])
+
+    def test_bytes_and_reset_need_none(self):
+        told = ask((DECODE, 0), (FEED, 0), (RESET,), feed([0, 0]), decode([3, 0, 0, 0, 0, 0, 3]))
+        self.assertEqual(told, [[0, 1], [0, 0, 0, 0], [0], [0, 0, 0, 3, 1, 0, 0], [0, 0, 3, 0, 0]])
+
+    def test_bytes_out_of_range(self):
+        self.assertEqual(ask(decode([256]), feed([-1]), (FEED, 0)), [[-1], [-1], [0, 0, 0, 0]])
 
     def test_out_of_range_comes_first(self):
         for call, position, least, greatest in each_bound():
@@ -59,7 +73,8 @@ class WithoutHouse(unittest.TestCase):
                 self.assertEqual(last(with_number(call, position, least - 1)), [-1])
 
     def test_comes_before_what_is_told_with_the_call(self):
-        for asked in ((SET, 3, 0, 0, 0), (FRAME, 199), (BURST, 3, 5, 4), (BACK, 0, 5, 4), (DELIVER, 0, 199)):
+        for asked in ((SET, 3, 0, 0, 0), (FRAME, 199), (BURST, 3, 5, 4), (BACK, 0, 5, 4), (DELIVER, 0, 199),
+                      (TOP, 3, 3), (AT, 199), (JOIN, 3), (DRAIN, 3, 1000), (SLOW, 0), (PENDING, 3), (CRASH, 3)):
             self.assertEqual(last(asked), [-2])
 
     def test_refused_open_opens_nothing(self):
@@ -84,8 +99,36 @@ class ToldWithTheCalls(unittest.TestCase):
         self.refused(-3, BACK, 3, 0, 1)
         self.refused(-3, VIEW, 3)
         self.refused(-3, MEMBER, 3)
-        for asked in ((DELIVER, 2, 0), (BURST, 2, 0, 1), (BACK, 2, 0, 1), (VIEW, 2), (MEMBER, 2)):
+        for call in (JOIN, SLOW, PENDING, CRASH):
+            self.refused(-3, call, 3)
+        self.refused(-3, DRAIN, 3, 1)
+        self.refused(-3, TOP, 3, 0)
+        for asked in ((DELIVER, 2, 0), (BURST, 2, 0, 1), (BACK, 2, 0, 1), (VIEW, 2), (MEMBER, 2), (TOP, 2, 0),
+                      (DRAIN, 2, 1), (SLOW, 2), (PENDING, 2), (CRASH, 2), (JOIN, 0)):
             self.assertEqual(last(*SMALL, asked)[0], 0)
+
+    def test_top(self):
+        self.refused(-3, TOP, 3, 3)
+        self.refused(-3, TOP, 3, 2)
+        self.refused(-3, TOP, 0, 2)
+        self.refused(-3, TOP, 1, 2)
+        self.refused(-8, TOP, 1, 1)
+        self.refused(-1, TOP, 3, 4)
+        self.refused(-1, TOP, 4, 3)
+        self.assertEqual(last(*SMALL, (TOP, 0, 1)), [0, 49, 1, 0, 0])
+
+    def test_fewer_changes(self):
+        for count in (12, 13, 199):
+            self.refused(-4, AT, count)
+        self.assertEqual(last(*SMALL, (AT, 11))[0], 0)
+
+    def test_slow_ones(self):
+        self.refused(-8, JOIN, 2)
+        for member in (0, 1):
+            self.refused(-8, DRAIN, member, 1)
+            self.refused(-8, SLOW, member)
+            self.refused(-8, PENDING, member)
+            self.assertEqual(last(*SMALL, (JOIN, member))[0], 0)
 
     def test_books_and_members_are_not_mixed_up(self):
         self.assertEqual(last((OPEN, 1, 4), (BOOK, 3)), [-3])
@@ -93,6 +136,10 @@ class ToldWithTheCalls(unittest.TestCase):
         self.assertEqual(last((OPEN, 4, 1), (VIEW, 3)), [-3])
         self.assertEqual(last((OPEN, 4, 1), (MEMBER, 3)), [-3])
         self.assertEqual(last((OPEN, 4, 1), (BEAT,), (DELIVER, 3, 0)), [-3])
+        self.assertEqual(ask((OPEN, 1, 4), (TOP, 3, 0), (TOP, 0, 3))[1:], [[0, 0, 0, 0, 0], [-3]])
+        self.assertEqual(ask((OPEN, 4, 1), (TOP, 0, 3), (TOP, 3, 0))[1:], [[0, 0, 0, 0, 0], [-3]])
+        self.assertEqual(ask((OPEN, 1, 4), (JOIN, 3), (OPEN, 4, 1), (JOIN, 3))[1::2], [[0, 0], [-3]])
+        self.assertEqual(ask((OPEN, 1, 4), (CRASH, 3), (OPEN, 4, 1), (CRASH, 3))[1::2], [[0], [-3]])
 
     def test_no_such_frame(self):
         for place in (SMALL_FRAMES, 199):
@@ -123,6 +170,11 @@ class ToldWithTheCalls(unittest.TestCase):
         self.refused(-1, DELIVER, 3, 200)
         self.refused(-1, BURST, 3, 1, -1)
         self.refused(-1, BACK, 3, 200, 0)
+        self.refused(-1, AT, 200)
+        self.refused(-1, DRAIN, 3, 1001)
+        self.refused(-1, DRAIN, 0, -1)
+        for call in (JOIN, SLOW, PENDING, CRASH):
+            self.refused(-1, call, 4)
 
 
 class NothingIsChanged(unittest.TestCase):
@@ -136,11 +188,17 @@ class NothingIsChanged(unittest.TestCase):
         (BURST, 3, 2, 3), (BURST, 0, 2, 13), (BURST, 0, 3, 2), (BURST, 0, -1, 3),
         (BACK, 3, 2, 3), (BACK, 0, 2, 13), (BACK, 0, 3, 2), (BACK, 0, -1, 3),
         (VIEW, 1), (VIEW, 3), (VIEW, 4), (MEMBER, 3), (MEMBER, -1), (BOOK, 2), (BOOK, 4),
+        (TOP, 3, 0), (TOP, 0, 2), (TOP, 1, 0), (TOP, 0, 4), (AT, 12), (AT, 200), decode([256]), decode([0] * 7 + [-1]),
+        (JOIN, 2), (JOIN, 3), (JOIN, 4), (DRAIN, 0, 1), (DRAIN, 3, 1), (DRAIN, 2, 1001), (DRAIN, 2, -1),
+        (SLOW, 0), (SLOW, 3), (SLOW, 4), (PENDING, 1), (PENDING, 3), (PENDING, -1),
+        feed([0, 0, 0, 0, 0, 3, 256]), feed([-1]), (CRASH, 3), (CRASH, 4), (CRASH, -1),
     )
 
     def test_all_refusals(self):
         dump = dump_calls(2, 3, SMALL_FRAMES)
         before = ask(*SMALL, *dump)[len(SMALL):]
+        self.assertEqual(before[:2], [last(*SMALL, (STATE,)), [0, 0, 3, 0]])
+        self.assertIn([0, 21, *[number for price in range(43, 50) for number in (1, 1, price)]], before)
         for refused in self.REFUSED:
             with self.subTest(call=refused):
                 told = ask(*SMALL, refused, *dump, (SET, 0, 0, 0, 5))
